@@ -1,0 +1,1 @@
+"""Inputs and tests of a notebook."""
