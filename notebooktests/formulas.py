@@ -1,7 +1,7 @@
-"""Formulas: read from a list of numbers into a tree, and worked out.
+"""Formulas, read from a list of numbers.
 
+A piece is a tuple: a sign and the value or name behind it (0 where formulas stand behind it).
 A tree is a tuple: its sign, then a value, a name, or the trees of its parts.
-An outcome is a tuple: 0 and a value, or the kind of the refusal and 0.
 """
 
 from notebooktests.limits import is_name, is_value
@@ -23,19 +23,12 @@ HOW_MANY_PARTS = (0, 0, 2, 2, 2, 2, 2, 2, 2, 2, 3)
 
 MOST_NUMBERS = 60
 
-NOT_REFUSED = 0
-DIVIDED_BY_NOTHING = 1
-OUT_OF_RANGE = 2
-
-FAILS = 0
-PASSES = 1
-IS_REFUSED = 2
-
 
 class Formula:
-    def __init__(self, tree, names):
-        self.tree = tree
-        self.names = names
+    def __init__(self, pieces):
+        self.pieces = pieces
+        self.tree = tree_of(pieces)
+        self.names = names_in(pieces)
 
 
 def formula_of(numbers):
@@ -43,11 +36,11 @@ def formula_of(numbers):
     pieces = pieces_of(numbers)
     if pieces is None:
         return None
-    return Formula(tree_of(pieces), names_in(pieces))
+    return Formula(pieces)
 
 
 def pieces_of(numbers):
-    # One (sign, value or name) for each sign in order; a loop, since wrong lists may nest without an end.
+    # One piece for each sign in order; a loop, since wrong lists may nest without an end.
     if len(numbers) > MOST_NUMBERS:
         return None
     pieces = []
@@ -105,59 +98,14 @@ def names_in(pieces):
     return names
 
 
-def work_out(tree, outcomes):
-    # outcomes has the outcome of every name that the tree reads.
-    sign = tree[0]
-    if sign == VALUE:
-        return (NOT_REFUSED, tree[1])
-    if sign == NAME:
-        return outcomes[tree[1]]
-    first = work_out(tree[1], outcomes)
-    if first[0] != NOT_REFUSED:
-        return first
-    if sign == EITHER:
-        return work_out(tree[2] if first[1] != 0 else tree[3], outcomes)
-    second = work_out(tree[2], outcomes)
-    if second[0] != NOT_REFUSED:
-        return second
-    if sign <= TIMES:
-        return within_range(reckon(sign, first[1], second[1]))
-    if sign == DIVIDED:
-        return divide(first[1], second[1])
-    return (NOT_REFUSED, compare(sign, first[1], second[1]))
-
-
-def reckon(sign, first, second):
-    if sign == PLUS:
-        return first + second
-    if sign == LESS:
-        return first - second
-    return first * second
-
-
-def within_range(number):
-    if is_value(number):
-        return (NOT_REFUSED, number)
-    return (OUT_OF_RANGE, 0)
-
-
-def divide(first, second):
-    if second == 0:
-        return (DIVIDED_BY_NOTHING, 0)
-    return (NOT_REFUSED, first // second)
-
-
-def compare(sign, first, second):
-    if sign == GREATER_ONE:
-        return max(first, second)
-    if sign == LESSER_ONE:
-        return min(first, second)
-    if sign == IS_LESS:
-        return 1 if first < second else 0
-    return 1 if first == second else 0
-
-
-def verdict_of(outcome):
-    if outcome[0] != NOT_REFUSED:
-        return IS_REFUSED
-    return PASSES if outcome[1] != 0 else FAILS
+def inlined(formula, inlined_cells):
+    # The formula's numbers, with those told in the place of each cell's name.
+    numbers = []
+    for sign, told in formula.pieces:
+        if sign == NAME and told in inlined_cells:
+            numbers.extend(inlined_cells[told])
+        elif is_leaf(sign):
+            numbers.extend((sign, told))
+        else:
+            numbers.append(sign)
+    return numbers

@@ -1,6 +1,7 @@
 """How far names and values go."""
 
 LAST_NAME = 31
+LEAST_VALUE = -1000000000000
 GREATEST_VALUE = 1000000000000
 
 
@@ -9,4 +10,4 @@ def is_name(number):
 
 
 def is_value(number):
-    return -GREATEST_VALUE <= number <= GREATEST_VALUE
+    return LEAST_VALUE <= number <= GREATEST_VALUE

@@ -1,8 +1,8 @@
 """The calls that turn inputs, keep and recall presets, and tell where names stand."""
 
-from notebooktests.formulas import NOT_REFUSED
 from notebooktests.refusals import NO_SUCH_CELL, NO_SUCH_INPUT, NO_SUCH_PRESET, NOT_OF_THE_INPUT
-from notebooktests.state import all_outcomes, has_name, value_now
+from notebooktests.state import value_now
+from notebooktests.trials import column_in, trial_of_now
 
 LAST_PRESET = 9
 
@@ -49,9 +49,11 @@ def recall_preset(notebook, number):
 
 
 def tell_value(notebook, name):
-    if not has_name(notebook, name):
+    if name in notebook.inputs:
+        return [0, value_now(notebook.inputs[name])]
+    if name not in notebook.cells:
         return [NO_SUCH_CELL]
-    outcome = all_outcomes(notebook)[name]
-    if outcome[0] == NOT_REFUSED:
-        return [0, outcome[1]]
-    return [1, outcome[0]]
+    column = column_in(notebook, trial_of_now(), notebook.cells[name])
+    if 0 in column.refusals:
+        return [1, column.refusals[0]]
+    return [0, column.numbers[0]]

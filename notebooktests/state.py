@@ -1,6 +1,4 @@
-"""What a notebook holds, and the outcomes of its names."""
-
-from notebooktests.formulas import NOT_REFUSED, work_out
+"""What a notebook holds, and who reads whom in it."""
 
 
 class Dial:
@@ -18,6 +16,8 @@ class Notebook:
         self.tests = {}
         self.presets = {}
         self.remembered = {}
+        # What was worked out near the setting, to be thrown away before anything changes.
+        self.near_trials = {}
 
 
 def has_name(notebook, name):
@@ -45,15 +45,20 @@ def is_read(notebook, name):
     return False
 
 
+def names_below(notebook, formula):
+    # What the formula reads, what the cells among that read, and so on. Once through the cells from
+    # the last one is enough, since each reads only those before it.
+    below = dict(formula.names)
+    for name in reversed(list(notebook.cells)):
+        if name in below:
+            below.update(notebook.cells[name].names)
+    return below
+
+
+def rested_on(notebook, formula):
+    below = names_below(notebook, formula)
+    return [name for name in notebook.inputs if name in below]
+
+
 def value_now(dial):
     return dial.stops[dial.place]
-
-
-def all_outcomes(notebook):
-    # Each cell once and in order, since cells that read each other often would take too long one by one.
-    outcomes = {}
-    for name, dial in notebook.inputs.items():
-        outcomes[name] = (NOT_REFUSED, value_now(dial))
-    for name, formula in notebook.cells.items():
-        outcomes[name] = work_out(formula.tree, outcomes)
-    return outcomes

@@ -56,6 +56,54 @@ def value(name):
     return [11, name]
 
 
+def verdict(number):
+    return [12, number]
+
+
+def verdicts():
+    return [13]
+
+
+def rests(name):
+    return [14, name]
+
+
+def rests_of_test(number):
+    return [15, number]
+
+
+def inputs():
+    return [16]
+
+
+def sweep(name, number):
+    return [17, name, number]
+
+
+def edge(name, number, direction):
+    return [18, name, number, direction]
+
+
+def grid(x, y, number):
+    return [19, x, y, number]
+
+
+def nearest(number, verdict_asked):
+    return [20, number, verdict_asked]
+
+
+def inline(number):
+    return [21, number]
+
+
+def mark():
+    return [22]
+
+
+def news():
+    return [23]
+
+
 def run(calls):
     """The answers of the calls, one list each."""
     flat = []
@@ -75,13 +123,20 @@ def last(calls):
     return run(calls)[-1]
 
 
+def look_only():
+    """Calls that look and change nothing."""
+    calls = [inputs(), verdicts(), news()]
+    for name in range(32):
+        calls += [value(name), rests(name)]
+    return calls
+
+
 def look_at_everything():
     """Calls whose answers tell one notebook from another, as far as calls can."""
-    values = [value(name) for name in range(32)]
-    calls = list(values)
+    calls = look_only() + [inline(number) for number in range(32)]
     for preset in range(10):
         calls.append(recall(preset))
-    calls += values
+    calls += look_only() + [mark()]
     for number in range(32):
         calls.append(drop_test(number))
     for name in range(31, -1, -1):

@@ -1,7 +1,7 @@
 import unittest
 
 from helper import NotebookCase, TOP, WHOLE_TOP, cell, choice, nested_sum, run, slider, value
-from notebooktests.formulas import formula_of, verdict_of
+from notebooktests.formulas import formula_of
 
 NOUGHT = [5, 0, 1, 0, 0]
 FAR = [2, 0, TOP, 0, 1]
@@ -145,15 +145,6 @@ class Form(unittest.TestCase):
 
     def test_values_are_not_names(self):
         self.assertEqual(sorted(formula_of([2, 0, 4, 1, 7]).names), [7])
-
-
-class Verdicts(unittest.TestCase):
-    def test_verdicts(self):
-        self.assertEqual(verdict_of((0, 5)), 1)
-        self.assertEqual(verdict_of((0, -5)), 1)
-        self.assertEqual(verdict_of((0, 0)), 0)
-        self.assertEqual(verdict_of((1, 0)), 2)
-        self.assertEqual(verdict_of((2, 0)), 2)
 
 
 if __name__ == "__main__":
