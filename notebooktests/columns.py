@@ -42,9 +42,9 @@ def column_of(tree, columns, how_many):
     first = column_of(tree[1], columns, how_many)
     if len(first.refusals) == how_many:
         return first
-    second = column_of(tree[2], columns, how_many)
     if sign == EITHER:
-        return either(first, second, column_of(tree[3], columns, how_many))
+        return either_part(tree, first, columns, how_many)
+    second = column_of(tree[2], columns, how_many)
     column = of_two(sign, first, second)
     return Column(column.numbers, column.low, column.high, joined(first.refusals, second.refusals, column.refusals))
 
@@ -61,9 +61,20 @@ def joined(first, second, own):
     return refusals
 
 
-def either(asked, taken, other):
+def either_part(tree, asked, columns, how_many):
+    # A part that no setting takes isn't worked out.
+    if len(asked.refusals) == 0:
+        zeros = asked.numbers.count(0)
+        if zeros == 0:
+            return column_of(tree[2], columns, how_many)
+        if zeros == how_many:
+            return column_of(tree[3], columns, how_many)
+    return both_parts(asked, column_of(tree[2], columns, how_many), column_of(tree[3], columns, how_many))
+
+
+def both_parts(asked, taken, other):
     numbers = [b if a != 0 else c for a, b, c in zip(asked.numbers, taken.numbers, other.numbers)]
-    # Both were worked out, each for some of the settings: at the rest its refusals don't count.
+    # Each was worked out for some of the settings: at the rest its refusals don't count.
     refusals = dict(asked.refusals)
     for k, kind in taken.refusals.items():
         if asked.numbers[k] != 0:
